@@ -1,0 +1,1 @@
+"""Smalltowns: reports that hide what is too small, step after step."""
