@@ -20,6 +20,19 @@ BARRED = (ast.Global, ast.AsyncFunctionDef, ast.Await, ast.AsyncFor, ast.AsyncWi
 WORDS = re.compile(r"\b(type|typing|typing_extensions|enum|Enum|IntEnum|StrEnum|Flag|IntFlag|Generic|Protocol|ABC"
                    r"|ABCMeta|namedtuple|NamedTuple|TypedDict|TYPE_CHECKING|abstractmethod)\b")
 
+NAMES = set("""register mro elements open input law version_info with_traceback add_note attrgetter breakpoint builtins
+    compile copyright credits delattr dir eval exec exit gc getattr globals hasattr help id importlib license locals
+    methodcaller os quit setattr type vars sys""".split())
+
+METHODS = set("""append clear copy count endswith extend find get index insert isalnum isalpha isdigit islower isspace
+    isupper items join keys ljust lower lstrip partition pop remove replace reverse rfind rjust rpartition rsplit rstrip
+    setdefault split splitlines startswith strip update upper values zfill bit_length add discard isascii""".split())
+
+DOUBLE = re.compile("__(init|eq|repr|str|len|enter|exit|call|iter|lt|le|gt|ge|ne|r?add|r?sub|r?mul|r?floordiv|r?mod|pow"
+                    "|r?and|r?or|r?xor|r?lshift|r?rshift|neg|pos|invert|abs|bool|contains|getitem|setitem)__")
+
+AT_ONCE = {"range", "zip", "enumerate", "reversed", "map"}
+
 LIBRARY = {
     "heapq": {"heappush", "heappop", "heapify", "heapreplace", "heappushpop"},
     "math": {"gcd", "lcm", "isqrt", "comb", "perm", "factorial"},
@@ -78,6 +91,72 @@ class Language(unittest.TestCase):
                 self.assertIsInstance(node.ctx, ast.Load, f"{name} {node.lineno}")
         for name, node in self.nodes(ast.arg):
             self.assertNotIn(node.arg, builtin_names(), f"{name} {node.lineno}")
+
+    def test_no_name_of_an_import_or_a_class_has_another_meaning(self):
+        for name, tree in self.trees.items():
+            outer = [own.name for node in tree.body if isinstance(node, ast.ImportFrom) for own in node.names]
+            outer += [node.name for node in tree.body if isinstance(node, (ast.ClassDef, ast.FunctionDef))]
+            self.assertEqual(len(outer), len(set(outer)), name)
+            inner = {node.arg for node in ast.walk(tree) if isinstance(node, ast.arg)}
+            inner |= {node.id for node in ast.walk(tree) if isinstance(node, ast.Name) and isinstance(node.ctx, ast.Store)}
+            self.assertEqual(inner & set(outer), set(), name)
+            self.assertEqual((inner | set(outer)) & NAMES, set(), name)
+
+    def test_imports_do_not_go_in_a_circle(self):
+        wanted = {f"smalltowns.{name[:-3]}": {node.module for node in tree.body if isinstance(node, ast.ImportFrom)}
+                  for name, tree in self.trees.items()}
+        while wanted:
+            free = [name for name, needs in wanted.items() if not needs & set(wanted)]
+            self.assertNotEqual(free, [], sorted(wanted))
+            wanted = {name: needs for name, needs in wanted.items() if name not in free}
+
+    def test_each_import_is_of_the_file_that_defines_the_name(self):
+        for name, node in self.nodes(ast.ImportFrom):
+            if node.module.startswith("smalltowns."):
+                there = self.trees[node.module.split(".")[1] + ".py"].body
+                defined = {own.name for own in there if isinstance(own, (ast.ClassDef, ast.FunctionDef))}
+                defined |= {own.targets[0].id for own in there if isinstance(own, ast.Assign)}
+                self.assertLessEqual({own.name for own in node.names}, defined, name)
+
+    def test_modules_hold_nothing_but_definitions(self):
+        for name, tree in self.trees.items():
+            for node in tree.body[1:]:
+                self.assertIsInstance(node, (ast.ImportFrom, ast.ClassDef, ast.FunctionDef, ast.Assign), name)
+
+    def test_only_these_methods(self):
+        own = {node.name for _, node in self.nodes(ast.FunctionDef)}
+        for name, node in self.nodes(ast.Call):
+            if isinstance(node.func, ast.Attribute):
+                self.assertIn(node.func.attr, METHODS | own, f"{name} {node.lineno}")
+        for name, node in self.nodes(ast.FunctionDef):
+            if node.name.startswith("__"):
+                self.assertTrue(DOUBLE.fullmatch(node.name), f"{name} {node.lineno}")
+
+    def test_decorators_stand_over_methods_alone(self):
+        for name, node in self.nodes(ast.FunctionDef, ast.ClassDef):
+            told = [own.id for own in node.decorator_list]
+            self.assertIn(told, ([], ["property"], ["staticmethod"]), f"{name} {node.lineno}")
+
+    def test_lists_where_objects_can_be_equal(self):
+        # No generator expression, as classes of the package have an __eq__.
+        self.assertEqual([(name, node.lineno) for name, node in self.nodes(ast.GeneratorExp)], [])
+
+    def test_what_is_gone_through_at_once_is_not_kept(self):
+        for name, node in self.nodes(ast.Assign, ast.Return, ast.AugAssign):
+            value = node.value
+            if isinstance(value, ast.Call) and isinstance(value.func, ast.Name):
+                self.assertNotIn(value.func.id, AT_ONCE, f"{name} {node.lineno}")
+
+    def test_is_stands_beside_none_alone(self):
+        for name, node in self.nodes(ast.Compare):
+            for sign, right in zip(node.ops, node.comparators):
+                if isinstance(sign, (ast.Is, ast.IsNot)):
+                    self.assertIsInstance(right, ast.Constant, f"{name} {node.lineno}")
+
+    def test_powers_have_literal_exponents(self):
+        for name, node in self.nodes(ast.BinOp):
+            if isinstance(node.op, ast.Pow):
+                self.assertIsInstance(node.right, ast.Constant, f"{name} {node.lineno}")
 
     def test_no_barred_parts_of_python(self):
         self.assertEqual([(name, node.__class__.__name__) for name, node in self.nodes(*BARRED)], [])
