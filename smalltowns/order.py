@@ -125,7 +125,7 @@ def bounds_between(p, q):
 
 def lengths_between(p, q):
     """How many Scripts stand between, by how many numbers they have: pairs (length, many)."""
-    # Only a Script within q has a low for each of its highs.
+    # Nothing stands between then, and q may have more numbers than can be told one by one.
     if not p.within(q):
         return []
     lows, highs = bounds_between(p, q)
