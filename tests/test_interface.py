@@ -6,8 +6,9 @@ import unittest
 
 from helper import Case
 
-from smalltowns import behind, forms, order
+from smalltowns import behind, costs, forms, order, plans, readers, tells
 from smalltowns.counties import County
+from smalltowns.plans import Plan
 from smalltowns.scripts import Script
 from smalltowns.steps import Step
 
@@ -27,6 +28,18 @@ LISTED = {
               "rank_between": "p q third"},
     "behind": {"rests": "p whole", "fronts": "p whole", "either_order": "p other", "steady": "p",
                "idle_behind": "p other", "idle_ahead": "p other", "meeting": "p other"},
+    "readers": {"can_be_shown": "script shown", "can_hide": "script shown hidden", "bonds": "script shown",
+                "least_rows": "script shown size=1", "least_towns": "script shown size=1",
+                "least_hidden": "script shown", "can_total": "script shown rows", "greatest_town": "script shown rows",
+                "agree": "scripts shown", "fewest_rows_for": "scripts shown", "county_for": "scripts shown"},
+    "costs": {"needless": "script", "steps_needed": "script", "taken_by": "script county size",
+              "new_town": "script county", "pillars": "script county", "towns_to_lose": "script county size",
+              "town_to_add": "script county size"},
+    "tells": {"fits": "script looks", "strictest_fit": "looks", "sure": "looks county size", "only_fit": "looks",
+              "how_many_fit": "looks", "next_look": "looks", "telling_table": "most", "read_off": "most told",
+              "Search": "most", "Search.tell": "self shown"},
+    "plans": {"Plan": "steps=()", "Plan.of": "text", "Plan.__call__": "self country", "Plan.within": "self other",
+              "unmet": "plan country", "parting_country": "plan other"},
 }
 
 
@@ -64,7 +77,7 @@ def told_of(value):
     """What is told of a value, at any depth, in strings, numbers, lists and tuples alone."""
     if isinstance(value, (list, tuple)):
         return value.__class__([told_of(part) for part in value])
-    return value.text if isinstance(value, (County, Script, Step)) else value
+    return value.text if isinstance(value, (County, Plan, Script, Step)) else value
 
 
 class Again(Case):
@@ -114,6 +127,59 @@ class Again(Case):
         for call in (behind.either_order, behind.idle_behind, behind.idle_ahead, behind.meeting):
             self.check(call, p=p, other=other)
         self.check(behind.steady, p=p)
+
+    def test_readers(self):
+        script, shown = Script.of("county 20; town 4; county 12; county 2; town 6"), County.of("6")
+        self.check(readers.can_hide, script=script, shown=shown, hidden=County.of("5x3"))
+        for call in (readers.can_be_shown, readers.bonds, readers.least_hidden, readers.least_rows, readers.least_towns):
+            self.check(call, script=script, shown=shown)
+        for call in (readers.least_rows, readers.least_towns):
+            self.check(call, script=script, shown=shown, size=4)
+        for call in (readers.can_total, readers.greatest_town):
+            self.check(call, script=script, shown=shown, rows=21)
+        scripts = [Script.of("town 4; county 8; county 2; town 6"), Script.of("town 2; county 12")]
+        for call in (readers.agree, readers.fewest_rows_for, readers.county_for):
+            self.check(call, scripts=scripts, shown=[shown, County()])
+            self.check(call, scripts=tuple(scripts), shown=(shown, County()))
+
+    def test_costs(self):
+        script, county = Script.of("county 10; county 2; town 5"), County.of("1 4 5")
+        for call in (costs.needless, costs.steps_needed):
+            self.check(call, script=script)
+        for call in (costs.new_town, costs.pillars):
+            self.check(call, script=script, county=county)
+        for call in (costs.taken_by, costs.towns_to_lose, costs.town_to_add):
+            for size in (1, 4, 5):
+                self.check(call, script=script, county=county, size=size)
+
+    def test_tells(self):
+        looks = [[County.of("1 4 5"), 5, True], (County.of("1 4 5"), 4, False)]
+        self.check(tells.fits, script=Script.of("county 10; town 5; town 2"), looks=looks)
+        for call in (tells.strictest_fit, tells.only_fit, tells.how_many_fit, tells.next_look):
+            self.check(call, looks=looks)
+            self.check(call, looks=looks[1:])
+            self.check(call, looks=())
+        self.check(tells.sure, looks=looks, county=County.of("1 4 6"), size=6)
+        self.check(tells.telling_table, most=6)
+        shown = [Script.of("county 5; town 3")(county) for county in tells.telling_table(6)]
+        self.check(tells.read_off, most=6, told=shown)
+        search, other = tells.Search(100), tells.Search(most=100)
+        for shown in (True, False, False, True):
+            self.same(told_of(search.ask), told_of(other.ask))
+            self.same((search.tell(shown), other.tell(shown=shown)), (None, None))
+
+    def test_plans(self):
+        plan, other = Plan.of("county 9; country 20; town 3; town 1"), Plan.of("country 7; county 9")
+        country = [County.of("9"), County(), County.of("2 8"), County.of("5")]
+        self.check(Plan, steps=[["county", 9], ("country", 20)])
+        self.check(Plan.of, text="county 9; country 20")
+        self.check(plan, country=country)
+        self.check(plan.within, other=other)
+        self.check(plans.unmet, plan=plan, country=country)
+        self.check(plans.parting_country, plan=plan, other=other)
+        self.check(plans.parting_country, plan=plan, other=Plan.of("county 9; town 3"))
+        for name in ("steps", "text", "script", "holds"):
+            self.same(told_of(getattr(plan, name)), told_of(getattr(plan, name)))
 
 
 if __name__ == "__main__":
