@@ -1,8 +1,8 @@
 """A Board of reports: what they show of a book of which only bounds are known."""
 
 from smalltowns.counties import County
-from smalltowns.deeds import (check_report, first_state, tried, with_frame, with_house, with_report, with_step, with_town,
-                              without_frame, without_report, without_town)
+from smalltowns.deeds import (check_report, first_state, tried, with_frame, with_house, with_report, with_step,
+                              with_town, without_frame, without_report, without_town)
 from smalltowns.errors import NoName, NoReport, Stopped
 from smalltowns.order import compare
 
@@ -83,36 +83,36 @@ class Board:
         return compare(self[name], script)
 
     def __setitem__(self, at, worth):
-        self._go_on(with_report(self._state, at, worth))
+        self._move_to(with_report(self._state, at, worth))
 
     def leave(self, name):
         """The report goes, with its frame."""
-        self._go_on(without_report(self._state, name))
+        self._move_to(without_report(self._state, name))
 
     def __iadd__(self, other):
         name, step = other
-        self._go_on(with_step(self._state, name, step))
+        self._move_to(with_step(self._state, name, step))
         return self
 
     def frame(self, name, low, high):
         """The report has this frame, in the place of an earlier one."""
-        self._go_on(with_frame(self._state, name, low, high))
+        self._move_to(with_frame(self._state, name, low, high))
 
     def lift(self, name):
         """The frame of the report goes."""
-        self._go_on(without_frame(self._state, name))
+        self._move_to(without_frame(self._state, name))
 
     def turn(self, script):
         """This is the house Script."""
-        self._go_on(with_house(self._state, script))
+        self._move_to(with_house(self._state, script))
 
     def put(self, county, town, low, high):
         """The town of the county has a size from low to high from now on."""
-        self._go_on(with_town(self._state, county, town, low, high))
+        self._move_to(with_town(self._state, county, town, low, high))
 
     def strike(self, county, town):
         """The town goes, and its county with the last one."""
-        self._go_on(without_town(self._state, county, town))
+        self._move_to(without_town(self._state, county, town))
 
     def attempt(self, deeds):
         """All of these deeds or none."""
@@ -121,7 +121,7 @@ class Board:
             state, refused = tried(state, deed)
             if refused is not None:
                 raise Stopped(number, refused[0], refused[1])
-        self._go_on(state)
+        self._move_to(state)
 
     def undo(self):
         """Take back the last deed; whether there was one."""
@@ -140,7 +140,7 @@ class Board:
     def __eq__(self, other):
         return isinstance(other, Board) and self._state == other._state
 
-    def _go_on(self, state):
+    def _move_to(self, state):
         """Keep the State so far as one that can be taken back."""
         self._past.append(self._state)
         self._state = state

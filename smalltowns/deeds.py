@@ -134,13 +134,13 @@ def tried(state, deed):
     """
     try:
         return after(state, deed), None
-    except NoReport as error:
-        return state, ("NoReport", error.name)
-    except NoFrame as error:
-        return state, ("NoFrame", error.name)
-    except NoName as error:
-        return state, ("NoName", error.name)
-    except Outside as error:
-        return state, ("Outside", error.name)
-    except BadSize as error:
-        return state, ("BadSize", error.pair)
+    except NoReport as no_report:
+        return state, ("NoReport", no_report.name)
+    except NoFrame as no_frame:
+        return state, ("NoFrame", no_frame.name)
+    except NoName as no_name:
+        return state, ("NoName", no_name.name)
+    except Outside as outside:
+        return state, ("Outside", outside.name)
+    except BadSize as bad_size:
+        return state, ("BadSize", bad_size.pair)

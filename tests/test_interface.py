@@ -6,7 +6,8 @@ import unittest
 
 from helper import Case
 
-from smalltowns import behind, costs, forms, order, plans, readers, tells
+from smalltowns import behind, costs, desk, forms, order, plans, readers, rows, tells, texts
+from smalltowns.board import Board
 from smalltowns.counties import County
 from smalltowns.plans import Plan
 from smalltowns.scripts import Script
@@ -40,6 +41,28 @@ LISTED = {
               "Search": "most", "Search.tell": "self shown"},
     "plans": {"Plan": "steps=()", "Plan.of": "text", "Plan.__call__": "self country", "Plan.within": "self other",
               "unmet": "plan country", "parting_country": "plan other"},
+    "rows": {"in_row": "scripts order", "shortened": "scripts order", "outcomes": "scripts", "all_alike": "scripts",
+             "unlike_pair": "scripts", "most_order": "scripts", "least_order": "scripts", "always": "scripts county",
+             "sometimes": "scripts county"},
+    "board": {"Board": "", "Board.towns_of": "self county", "Board.sure": "self name", "Board.maybe": "self name",
+              "Board.rows_of": "self name county", "Board.promise": "self name", "Board.idle": "self",
+              "Board.effect": "self name script", "Board.leave": "self name", "Board.frame": "self name low high",
+              "Board.lift": "self name", "Board.turn": "self script", "Board.put": "self county town low high",
+              "Board.strike": "self county town", "Board.attempt": "self deeds", "Board.undo": "self",
+              "Board.twin": "self"},
+    "texts": {"program_of": "text", "board_text": "board", "board_in": "text"},
+    "desk": {"answers": "text"},
+}
+
+# The properties and the double-underscore methods of the classes, each defined in the class itself.
+OWN = {
+    "counties.County": "runs text rows towns __len__ __getitem__ __contains__ __iter__ __add__ __eq__",
+    "steps.Step": "kind least text __eq__",
+    "scripts.Script": "steps text form least floors plain __len__ __getitem__ __iter__ __rshift__ __mul__ __and__ __or__ "
+                      "__eq__",
+    "tells.Search": "ask script __len__",
+    "plans.Plan": "steps text script holds __len__ __getitem__ __iter__ __rshift__ __mul__ __eq__",
+    "board.Board": "counties house names frames __len__ __contains__ __getitem__ __setitem__ __iadd__ __iter__ __eq__",
 }
 
 
@@ -73,10 +96,29 @@ class Listed(Case):
                     self.same(getattr(module, name.split(".")[0]).__module__, f"smalltowns.{file}")
 
 
+    def test_classes_define_what_is_listed_for_them(self):
+        for place, names in OWN.items():
+            file, name = place.split(".")
+            found = vars(importlib.import_module(f"smalltowns.{file}"))[name]
+            self.assertEqual(found.__bases__, (object,))
+            for own in names.split():
+                with self.subTest(place=place, name=own):
+                    thing = vars(found)[own]
+                    self.assertEqual(isinstance(thing, property), not own.startswith("__"))
+                    if isinstance(thing, property):
+                        self.assertIsNone(thing.fset)
+
+    def test_all_files_are_there(self):
+        for file in ("errors", *LISTED):
+            self.assertEqual(importlib.import_module(f"smalltowns.{file}").__name__, f"smalltowns.{file}")
+
+
 def told_of(value):
     """What is told of a value, at any depth, in strings, numbers, lists and tuples alone."""
     if isinstance(value, (list, tuple)):
         return value.__class__([told_of(part) for part in value])
+    if isinstance(value, Board):
+        return texts.board_text(value)
     return value.text if isinstance(value, (County, Plan, Script, Step)) else value
 
 
@@ -180,6 +222,47 @@ class Again(Case):
         self.check(plans.parting_country, plan=plan, other=Plan.of("county 9; town 3"))
         for name in ("steps", "text", "script", "holds"):
             self.same(told_of(getattr(plan, name)), told_of(getattr(plan, name)))
+
+    def test_rows(self):
+        scripts, county = [Script.of("county 10; town 5; town 5"), Script.of("town 2; county 9")], County.of("1 4 5")
+        for call in (rows.in_row, rows.shortened):
+            self.check(call, scripts=scripts, order=[1, 0, 1, 0])
+            self.check(call, scripts=tuple(scripts), order=())
+        for call in (rows.outcomes, rows.all_alike, rows.unlike_pair, rows.most_order, rows.least_order):
+            self.check(call, scripts=scripts)
+        for call in (rows.always, rows.sometimes):
+            self.check(call, scripts=scripts, county=county)
+
+    def test_boards(self):
+        board = Board()
+        deeds = [["put", "north", "a", 4, 4], ("put", "north", "b", 5, 7), ["set", "web", Script.of("county 9; town 5")],
+                 ["step", "web", Step.of("town 3")], ["frame", "web", None, Script()], ["turn", Script.of("town 2")]]
+        before = [list(deed) for deed in deeds]
+        board.attempt(deeds)
+        self.same(told_of(deeds), told_of([before[0], tuple(before[1]), *before[2:]]))
+        text = texts.board_text(board)
+        # What was handed in may change; the Board stays as it is.
+        deeds[0][3] = 99
+        deeds[2][2] = Script()
+        deeds.append(("leave", "web"))
+        self.same(texts.board_text(board), text)
+        for call in (board.sure, board.maybe, board.promise):
+            self.check(call, name="web")
+        self.check(board.rows_of, name="web", county="north")
+        self.check(board.towns_of, county="north")
+        self.check(board.effect, name="web", script=Script.of("town 5; town 1"))
+        self.check(board.idle)
+        self.check(board.twin)
+        for name in ("counties", "house", "names", "frames"):
+            self.same(told_of(getattr(board, name)), told_of(getattr(board, name)))
+        self.same(texts.board_text(board), text)
+
+    def test_texts(self):
+        self.check(texts.program_of, text="(county 10; town 5) x 2; town 1")
+        text = "north has a 4 b 5..7\nweb: county 9; town 5; town 2\nweb from * .. town 4\nhouse town 2"
+        self.check(texts.board_in, text=text)
+        self.check(texts.board_text, board=texts.board_in(text))
+        self.check(desk.answers, text="put north a 4\nreport web town 3\nsure web\nundo\nundo\nundo\nidle")
 
 
 if __name__ == "__main__":

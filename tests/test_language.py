@@ -29,7 +29,7 @@ METHODS = set("""append clear copy count endswith extend find get index insert i
     setdefault split splitlines startswith strip update upper values zfill bit_length add discard isascii""".split())
 
 DOUBLE = re.compile("__(init|eq|repr|str|len|enter|exit|call|iter|lt|le|gt|ge|ne|r?add|r?sub|r?mul|r?floordiv|r?mod|pow"
-                    "|r?and|r?or|r?xor|r?lshift|r?rshift|neg|pos|invert|abs|bool|contains|getitem|setitem)__")
+                    "|r?and|r?or|r?xor|r?lshift|r?rshift|iadd|neg|pos|invert|abs|bool|contains|getitem|setitem)__")
 
 AT_ONCE = {"range", "zip", "enumerate", "reversed", "map"}
 
@@ -176,6 +176,88 @@ class Language(unittest.TestCase):
         for name, node in self.nodes(ast.Raise):
             self.assertTrue(node.exc is None or isinstance(node.exc, ast.Call) and isinstance(node.exc.func, ast.Name),
                             f"{name} {node.lineno}")
+
+    def test_no_set_is_kept(self):
+        # A set is sorted or asked at once.
+        for name, node in self.nodes(ast.Assign, ast.Return):
+            value = node.value
+            self.assertNotIsInstance(value, (ast.Set, ast.SetComp), f"{name} {node.lineno}")
+            if isinstance(value, ast.Call) and isinstance(value.func, ast.Name):
+                self.assertNotIn(value.func.id, ("set", "frozenset"), f"{name} {node.lineno}")
+
+    def test_nothing_is_changed_by_a_sign_and_nothing_is_nested(self):
+        # Where a class has += of its own, no operator may use it on anything.
+        self.assertEqual([(name, node.lineno) for name, node in self.nodes(ast.AugAssign, ast.NamedExpr, ast.Lambda)], [])
+        for name, node in self.nodes(ast.FunctionDef):
+            inner = [own.name for own in ast.walk(node) if isinstance(own, (ast.FunctionDef, ast.ClassDef)) and own != node]
+            self.assertEqual(inner, [], f"{name} {node.name}")
+
+    def test_no_annotations(self):
+        self.assertEqual([(name, node.lineno) for name, node in self.nodes(ast.AnnAssign)], [])
+        for name, node in self.nodes(ast.FunctionDef):
+            told = [own.annotation for own in node.args.args + node.args.kwonlyargs] + [node.returns]
+            self.assertEqual([own for own in told if own], [], f"{name} {node.name}")
+
+    def test_attributes_have_names_of_their_own(self):
+        made, read, methods, properties = set(), set(), set(), set()
+        for name, node in self.nodes(ast.Attribute):
+            if isinstance(node.ctx, ast.Store):
+                made.add(node.attr)
+                self.assertIsInstance(node.value, ast.Name, f"{name} {node.lineno}")
+            else:
+                read.add(node.attr)
+        for name, node in self.nodes(ast.ClassDef):
+            for own in node.body:
+                if isinstance(own, ast.FunctionDef):
+                    told = [word.id for word in own.decorator_list]
+                    (properties if told == ["property"] else methods).add(own.name)
+        self.assertEqual((made & properties, made & methods, properties & methods), (set(), set(), set()))
+        self.assertLessEqual(read, made | properties | methods | METHODS)
+
+    def test_classes_that_tell_items_cannot_be_gone_through(self):
+        for name, node in self.nodes(ast.ClassDef):
+            methods = {own.name: own for own in node.body if isinstance(own, ast.FunctionDef)}
+            if "__getitem__" in methods:
+                self.assertIsInstance(methods["__iter__"].body[0], ast.Raise, f"{name} {node.name}")
+            if "__len__" in methods:
+                (told,) = methods["__len__"].body
+                self.assertEqual((told.__class__, told.value.func.id), (ast.Return, "len"), f"{name} {node.name}")
+            for base in node.bases:
+                self.assertIn(base.id, ("LookupError", "ValueError"), f"{name} {node.name}")
+
+    def test_only_own_errors_are_caught_and_each_by_a_name_of_its_own(self):
+        own = {node.name for name, node in self.nodes(ast.ClassDef) if name == "errors.py"}
+        for name, node in self.nodes(ast.ExceptHandler):
+            caught = node.type.elts if isinstance(node.type, ast.Tuple) else [node.type]
+            self.assertLessEqual({word.id for word in caught}, own, f"{name} {node.lineno}")
+        for name, node in self.nodes(ast.FunctionDef):
+            names = [inner.name for inner in ast.walk(node) if isinstance(inner, ast.ExceptHandler) and inner.name]
+            stored = [inner.id for inner in ast.walk(node)
+                      if isinstance(inner, ast.Name) and isinstance(inner.ctx, ast.Store)]
+            self.assertEqual(len(names), len(set(names) - set(stored)), f"{name} {node.name}")
+
+    def test_tables_of_a_module_are_only_read(self):
+        for name, tree in self.trees.items():
+            tables = {node.targets[0].id for node in tree.body if isinstance(node, ast.Assign)
+                      and isinstance(node.value, (ast.Dict, ast.List))}
+            for node in ast.walk(tree):
+                if isinstance(node, ast.Call):
+                    given = [own.id for own in node.args if isinstance(own, ast.Name)]
+                    self.assertEqual(tables & set(given), set(), f"{name} {node.lineno}")
+                    self.assertNotIsInstance(node.func, ast.Subscript, f"{name} {node.lineno}")
+
+    def test_stars_of_calls_stand_before_names(self):
+        for name, node in self.nodes(ast.Call):
+            for own in node.args:
+                if isinstance(own, ast.Starred):
+                    self.assertIsInstance(own.value, ast.Name, f"{name} {node.lineno}")
+            self.assertNotIn(None, [own.arg for own in node.keywords], f"{name} {node.lineno}")
+
+    def test_no_strings_inside_the_braces(self):
+        for name, node in self.nodes(ast.JoinedStr):
+            inner = [own for part in node.values if isinstance(part, ast.FormattedValue) for own in ast.walk(part.value)]
+            self.assertEqual([own for own in inner if isinstance(own, ast.Constant) and isinstance(own.value, str)], [],
+                             f"{name} {node.lineno}")
 
 
 if __name__ == "__main__":
