@@ -338,6 +338,27 @@ class Pairs(Case):
                 self.assertTrue(any(set(here) - set(there) for ones, others in both
                                     for here, there in zip(ones, others)), (one, other))
 
+    def test_parting_where_only_holds_differ(self):
+        rng = random.Random(10)
+        for number in range(3000):
+            # Mostly later steps ask for more than earlier ones, so that each hold stands behind another Script.
+            most = rng.choice((4, 8, 30))
+            numbers = sorted([rng.randint(1, most) for _ in range(rng.randint(1, 5))])
+            bare = [(rng.choice(("town", "county")), least) for least in numbers]
+            if number & 1:
+                # Counties lose less and less, as in plain forms.
+                counties = [most + least for kind, least in bare if kind == "county"]
+                bare = [(kind, least if kind == "town" else counties.pop()) for kind, least in bare]
+            both = []
+            for _ in range(2):
+                steps = list(bare)
+                for least in sorted([rng.randint(1, 3 * most) for _ in range(rng.randint(0, 4))]):
+                    steps.insert(rng.randint(0, len(steps)), ("country", least))
+                both.append(tuple(steps))
+            found = self.check_parted(*both)
+            if found is not None:
+                self.assertNotEqual(told_of(both[0], found), told_of(both[1], found))
+
     def test_parting_at_the_bounds(self):
         rng = random.Random(7)
         for _ in range(150):
@@ -347,13 +368,22 @@ class Pairs(Case):
                 other[rng.randrange(40)] = (rng.choice(KINDS), rng.randint(1, 1000))
             self.check_parted(one, tuple(other))
 
+    def test_counties_that_one_hold_counts_and_the_other_does_not(self):
+        for one, other in (("county 9; town 2; country 20; county 5", "county 9; town 2; county 5; country 19"),
+                           ("town 2; country 20; town 3; county 9", "town 2; town 3; country 15; county 9"),
+                           ("country 21; county 4; country 20; town 3", "county 4; town 3; country 19"),
+                           ("county 30; town 3; country 90; town 4; country 50; county 9", "county 30; town 4; county 9; "
+                            "country 49")):
+            for pair in ((one, other), (other, one)):
+                self.check_parted(*[Plan.of(text).steps for text in pair])
+
     def test_many_counties_are_needed(self):
-        # Only many Counties of one row have a thousand rows of which county 2 shows none.
-        one, other = Plan.of("country 1000; county 2; town 2; county 3"), Plan.of("county 2; country 4; town 2; county 3")
+        # Only many Counties of one row have a thousand rows of which county 2 shows nothing.
+        one, other = Plan.of("country 1000; county 2"), Plan.of("county 2; country 999")
         found = parting_country(one, other)
-        self.assertNotEqual(one(found), other(found))
-        found = parting_country(Plan.of("country 1000; county 3"), Plan.of("country 1000; county 2; country 999; county 3"))
-        self.assertNotEqual(found, None)
+        self.assertNotEqual(runs_of(one(found)), runs_of(other(found)))
+        self.assertTrue(one(found) and not other(found))
+        self.assertLessEqual(sum([county.rows for county in found if county.rows > 1]), 998)
 
     def test_equals_nothing_else(self):
         plan = Plan.of("town 2")

@@ -191,6 +191,60 @@ class OneScript(Case):
                   (least_rows(script, six, size=1), least_towns(script, six, 1)))
 
 
+class GreaterScripts(Case):
+    """Scripts with a least to 7 and floors that are far apart, against all hidden bags of few rows."""
+
+    def drawn(self):
+        """Drawn Scripts, each with a County and with all hidden bags of at most 18 rows."""
+        rng = random.Random(12)
+        for _ in range(250):
+            script = falling_script(rng.randint(3, 7), rng.choice((9, 14, 20)), rng)
+            floor = script.floor(script.least)
+            size = rng.randint(max(floor, script.least), floor + 3)
+            if script.floor(1) - size <= 12:
+                shown = County(((size, 1),))
+                rules = rules_of(script)
+                hidden = [bag for bag in bags(18, script.least - 1) if left_by(rules, bag + (size,)) == [size]]
+                yield script, shown, hidden
+
+    def test_least_rows_and_towns(self):
+        many = []
+        for script, shown, hidden in self.drawn():
+            many.append(len(bonds(script, shown)))
+            for size in range(1, script.least + 1):
+                parts = [[town for town in bag if town >= size] for bag in hidden]
+                self.same(least_rows(script, shown, size), min(sum(part) for part in parts))
+                self.same(least_towns(script, shown, size), min(len(part) for part in parts))
+            self.assertIn(least_hidden(script, shown).runs, [county_of(bag).runs for bag in hidden])
+        self.assertGreater(min(many.count(number) for number in (0, 1, 2)), 10)
+
+    def test_totals(self):
+        seen = set()
+        for script, shown, hidden in self.drawn():
+            for rows in range(-1, 19):
+                right = [max(bag, default=0) for bag in hidden if sum(bag) == rows]
+                wanted = max(right, default=None)
+                self.same(greatest_town(script, shown, rows + shown.rows), wanted)
+                self.same(can_total(script, shown, rows + shown.rows), len(right) > 0)
+                if wanted is not None:
+                    seen.add(min(script.least - 1, rows) - wanted)
+        # Now and then greater ones would have too many rows with what is hidden besides.
+        self.assertGreater(len(seen), 2)
+
+    def test_each_bond(self):
+        for least in range(2, 7):
+            some = bags(14, least - 1)
+            shown = County(((least, 1),))
+            for size in range(1, least):
+                for lack in range(1, 12):
+                    script = script_by([("town", size), ("county", least + lack), ("town", least)])
+                    self.same(bonds(script, shown), ((size, lack),))
+                    hidden = [bag for bag in some if sum([town for town in bag if town >= size]) >= lack]
+                    for rows in range(15):
+                        right = [max(bag) for bag in hidden if sum(bag) == rows]
+                        self.same(greatest_town(script, shown, least + rows), max(right, default=None))
+
+
 class Never(Case):
     """NeverShown ahead of all else."""
 
