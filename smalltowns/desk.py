@@ -37,35 +37,35 @@ def request_in(line):
 
 
 def named_in(word, rest):
-    """NAME"""
+    """The request of this word and NAME."""
     return word, name_in(rest)
 
 
 def two_named_in(word, rest):
-    """NAME NAME"""
+    """The request of this word, NAME and NAME."""
     name, _, other = rest.partition(" ")
     return word, name_in(name), name_in(other)
 
 
 def script_in(word, rest):
-    """NAME SCRIPT"""
+    """The request of this word, NAME and SCRIPT."""
     name, _, text = rest.partition(" ")
     return word, name_in(name), Script.of(text)
 
 
 def report_in(word, rest):
-    """NAME SCRIPT"""
+    """The deed that sets a report: NAME and SCRIPT."""
     return script_in("set", rest)
 
 
 def step_in(word, rest):
-    """NAME STEP"""
+    """The deed of this word, NAME and STEP."""
     name, _, text = rest.partition(" ")
     return word, name_in(name), Step.of(text)
 
 
 def frame_in(word, rest):
-    """NAME from LOW .. HIGH"""
+    """The deed of this word, NAME, from, LOW, .. and HIGH."""
     name, _, tail = rest.partition(" ")
     start, _, text = tail.partition(" ")
     if start != "from":
@@ -75,12 +75,12 @@ def frame_in(word, rest):
 
 
 def house_in(word, rest):
-    """SCRIPT"""
+    """The deed that turns the house SCRIPT."""
     return "turn", Script.of(rest)
 
 
 def put_in(word, rest):
-    """COUNTY TOWN SIZE"""
+    """The deed of this word, COUNTY, TOWN and SIZE."""
     county, _, tail = rest.partition(" ")
     town, _, size = tail.partition(" ")
     low, high = sizes_in(size)
